@@ -1,0 +1,207 @@
+"""The rules of LANGUAGE.md that can be seen in each file by itself, or in its imports."""
+
+import ast
+import builtins
+import functools
+import pathlib
+import re
+import unittest
+
+FOLDER = pathlib.Path(__file__).resolve().parent.parent / "sendstead"
+FILES = sorted(FOLDER.rglob("*.py"))
+LIBRARY = {
+    "heapq": "heappush heappop heapify heapreplace heappushpop",
+    "math": "gcd lcm isqrt comb perm factorial",
+    "itertools": "product combinations permutations",
+}
+BUILTINS = set(
+    "len range enumerate zip min max sum abs sorted reversed int str bool bytes list tuple dict set frozenset isinstance"
+    " ord repr any all divmod iter next map super property staticmethod classmethod NotImplemented Exception ValueError"
+    " TypeError KeyError IndexError LookupError ZeroDivisionError ArithmeticError OverflowError RuntimeError"
+    " NotImplementedError AttributeError StopIteration object float".split()
+)
+METHODS = set(
+    "append clear copy count endswith extend find get index insert isalnum isalpha isdigit islower isspace isupper items"
+    " join keys ljust lower lstrip partition pop remove replace reverse rfind rjust rpartition rsplit rstrip setdefault"
+    " split splitlines startswith strip update upper values zfill bit_length title capitalize swapcase casefold center"
+    " expandtabs removeprefix removesuffix rindex isascii isdecimal isnumeric istitle isidentifier isprintable"
+    " translate add discard sort encode decode hex".split()
+)
+SPECIAL = set(
+    "init eq repr str len enter exit call iter lt le gt ge ne add sub mul floordiv mod pow and or xor lshift rshift neg"
+    " pos invert abs bool contains getitem setitem".split()
+)
+NOWHERE = set("register mro elements open input law version_info with_traceback add_note".split())
+NO_WORDS = re.compile(
+    r"\b(typing|typing_extensions|enum|Enum|IntEnum|StrEnum|Flag|IntFlag|Generic|Protocol|ABC|ABCMeta|namedtuple"
+    r"|NamedTuple|TypedDict|TYPE_CHECKING|abstractmethod)\b|dataclass|overload|contextmanager"
+)
+BARRED = (
+    ast.Global, ast.AsyncFunctionDef, ast.AsyncFor, ast.AsyncWith, ast.Await, ast.Div, ast.MatMult, ast.TryStar,
+    ast.Import,
+)
+
+
+def tree_of(file):
+    return ast.parse(file.read_text(encoding="utf-8"))
+
+
+def nodes_of(file, *sorts):
+    return [node for node in ast.walk(tree_of(file)) if isinstance(node, sorts)]
+
+
+def bound_names(file):
+    """The names of functions, classes, parameters and variables of a file."""
+    names = [node.name for node in nodes_of(file, ast.FunctionDef, ast.ClassDef)]
+    names += [node.arg for node in nodes_of(file, ast.arg)]
+    return names + [node.id for node in nodes_of(file, ast.Name) if isinstance(node.ctx, ast.Store)]
+
+
+def in_each_file(check):
+    """A test that does the check for each file of the package."""
+    @functools.wraps(check)
+    def test(self):
+        for file in FILES:
+            with self.subTest(file=file.name):
+                check(self, file)
+    return test
+
+
+class LanguageTest(unittest.TestCase):
+    def test_l1_l14_files(self):
+        self.assertTrue((FOLDER / "__init__.py").exists())
+        for file in FOLDER.rglob("*"):
+            if file.name != "__pycache__" and file.parent.name != "__pycache__":
+                self.assertRegex(file.name, r"^(__init__|__main__|[a-z][a-z0-9_]*)\.py$")
+                self.assertNotRegex(file.name, r"^(law_|test)|^(tests?|testing|site|conftest)\.py$")
+                self.assertNotIn(file.stem, dir(builtins))
+
+    @in_each_file
+    def test_l10_l14_signs_and_sizes(self, file):
+        text = file.read_text(encoding="utf-8")
+        self.assertRegex(text, r"\A[ -~\n]*\Z")
+        self.assertLessEqual(len(text.splitlines()), 399)
+        self.assertLessEqual(max(map(len, text.splitlines()), default=0), 120)
+        for node in nodes_of(file, ast.FunctionDef):
+            self.assertLessEqual(node.end_lineno - node.lineno + 1, 40, node.name)
+
+    @in_each_file
+    def test_l2_l16_imports(self, file):
+        known = {file.stem for file in FILES}
+        for node in nodes_of(file, ast.ImportFrom):
+            self.assertEqual(node.level, 0)
+            names = {alias.name for alias in node.names}
+            if node.module in LIBRARY:
+                self.assertLessEqual(names, set(LIBRARY[node.module].split()))
+            elif node.module != "__future__":
+                package, _, module = node.module.partition(".")
+                self.assertEqual(package, "sendstead")
+                self.assertIn(module, known)
+                body = tree_of(FOLDER / (module + ".py")).body
+                defined = {part.name for part in body if isinstance(part, (ast.FunctionDef, ast.ClassDef))}
+                defined |= {part.targets[0].id for part in body if isinstance(part, ast.Assign)}
+                self.assertLessEqual(names, defined)
+
+    def test_l16_no_rings_of_imports(self):
+        imports = {
+            file.stem: {node.module.split(".")[-1] for node in nodes_of(file, ast.ImportFrom)} for file in FILES
+        }
+        for start in imports:
+            seen, todo = set(), list(imports[start])
+            while todo:
+                name = todo.pop()
+                if name not in seen:
+                    seen.add(name)
+                    todo += imports.get(name, ())
+            self.assertNotIn(start, seen)
+
+    @in_each_file
+    def test_l3_module_level(self, file):
+        for at, node in enumerate(tree_of(file).body):
+            if isinstance(node, ast.Assign):
+                self.assertEqual([type(target) for target in node.targets], [ast.Name])
+            elif isinstance(node, ast.Expr):
+                self.assertEqual(at, 0)
+                self.assertIsInstance(node.value.value, str)
+            else:
+                self.assertIsInstance(node, (ast.ImportFrom, ast.FunctionDef, ast.ClassDef))
+
+    @in_each_file
+    def test_l4_l5_functions_and_classes(self, file):
+        for node in nodes_of(file, ast.FunctionDef, ast.ClassDef):
+            for decorator in node.decorator_list:
+                self.assertRegex(ast.unparse(decorator), r"^(property|staticmethod|classmethod|\w+\.setter)$")
+            if node.name.startswith("__"):
+                self.assertIn(node.name.strip("_"), SPECIAL)
+            if isinstance(node, ast.ClassDef):
+                names = [part.name for part in node.body if isinstance(part, ast.FunctionDef)]
+                self.assertEqual(len(names), len(set(names)), node.name)
+
+    @in_each_file
+    def test_l6_l7_statements_and_expressions(self, file):
+        self.assertEqual(nodes_of(file, *BARRED), [])
+        for node in nodes_of(file, ast.Constant):
+            self.assertNotIsInstance(node.value, (float, complex))
+        for node in nodes_of(file, ast.ExceptHandler):
+            self.assertIsNotNone(node.type)
+
+    @in_each_file
+    def test_l8_builtins(self, file):
+        used = {node.id for node in nodes_of(file, ast.Name)} & set(dir(builtins))
+        self.assertLessEqual(used - {"__name__"}, BUILTINS)
+
+    @in_each_file
+    def test_l12_l15_l17_names(self, file):
+        names = bound_names(file)
+        methods = [part.name for node in nodes_of(file, ast.ClassDef) for part in node.body
+                   if isinstance(part, ast.FunctionDef)]
+        imports = [alias.asname or alias.name for node in nodes_of(file, ast.ImportFrom) for alias in node.names]
+        top = [node.name for node in tree_of(file).body if isinstance(node, (ast.FunctionDef, ast.ClassDef))]
+        top += imports
+        self.assertEqual(len(top), len(set(top)))
+        self.assertFalse(set(imports) & set(names))
+        for name in names:
+            self.assertRegex(name, r"^(__\w+__|_?[A-Za-z][A-Za-z0-9_]*|_)$")
+            self.assertNotIn(name, NOWHERE)
+            self.assertTrue(name in methods or name not in dir(builtins), name)
+        for node in nodes_of(file, ast.Attribute):
+            self.assertNotIn(node.attr, NOWHERE)
+
+    @in_each_file
+    def test_l17_words(self, file):
+        text = "\n".join(ast.unparse(node) for node in tree_of(file).body)
+        self.assertIsNone(NO_WORDS.search(text))
+
+    @in_each_file
+    def test_l20_is(self, file):
+        for node in nodes_of(file, ast.Compare):
+            for sign, side in zip(node.ops, node.comparators):
+                if isinstance(sign, (ast.Is, ast.IsNot)):
+                    self.assertIn(ast.unparse(side), ("None", "True", "False", "self"))
+
+    @in_each_file
+    def test_l25_methods(self, file):
+        own = {node.name for file in FILES for node in nodes_of(file, ast.FunctionDef)}
+        stored = {node.attr for file in FILES for node in nodes_of(file, ast.Attribute) if isinstance(node.ctx, ast.Store)}
+        for node in nodes_of(file, ast.Call):
+            if isinstance(node.func, ast.Attribute):
+                self.assertIn(node.func.attr, METHODS | own | stored | {"__init__"})
+
+    @in_each_file
+    def test_l27_strings(self, file):
+        self.assertNotRegex(file.read_text(encoding="utf-8"), r"\\(?![n\\t\"'x])")
+        for node in nodes_of(file, ast.Constant):
+            if isinstance(node.value, str):
+                self.assertNotIn("%", node.value)
+                self.assertFalse(node.value.endswith(("._", ".__")))
+
+    @in_each_file
+    def test_l28_ends_of_str(self, file):
+        for node in nodes_of(file, ast.FunctionDef):
+            if node.name in ("__str__", "__repr__", "__len__"):
+                self.assertIsInstance(node.body[-1], ast.Return)
+                self.assertIsInstance(node.body[-1].value, (ast.Call, ast.Constant, ast.JoinedStr))
+
+
+if __name__ == "__main__":
+    unittest.main()
