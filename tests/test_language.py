@@ -31,6 +31,23 @@ SPECIAL = set(
     "init eq repr str len enter exit call iter lt le gt ge ne add sub mul floordiv mod pow and or xor lshift rshift neg"
     " pos invert abs bool contains getitem setitem".split()
 )
+# What DOC.md's interface lists so far, with the names of the arguments.
+INTERFACE = {
+    "errors": (
+        "SteadError Fault(page,row,column,why) NoKind NoMethod NoField NoWord Ring Clash Many Used Busy Idle Count Full"
+        " NoFrame NoName Worn NoDeed NoImage Undone(at)"
+    ),
+    "signs": "words_of(text)",
+    "pages": (
+        "Page(name,text) Page.place(k) Page.method_place(k,m) Page.node_places(k,m) Page.__str__() Page.__eq__(other)"
+    ),
+    "trees": (
+        "nodes_of(method) codes_of(method) names_of(method) parameters_of(method,node) body_of(method,node)"
+        " code_within(method,node)"
+    ),
+    "writing": "written(trees)",
+    "leadings": "leads(before,behind,thing)",
+}
 NOWHERE = set("register mro elements open input law version_info with_traceback add_note".split())
 NO_WORDS = re.compile(
     r"\b(typing|typing_extensions|enum|Enum|IntEnum|StrEnum|Flag|IntFlag|Generic|Protocol|ABC|ABCMeta|namedtuple"
@@ -55,6 +72,26 @@ def bound_names(file):
     names = [node.name for node in nodes_of(file, ast.FunctionDef, ast.ClassDef)]
     names += [node.arg for node in nodes_of(file, ast.arg)]
     return names + [node.id for node in nodes_of(file, ast.Name) if isinstance(node.ctx, ast.Store)]
+
+
+def with_arguments(name, function, first):
+    """A function's name with those of its arguments from the first on that a caller passes."""
+    return "%s(%s)" % (name, ",".join(argument.arg for argument in function.args.args[first:]))
+
+
+def defined_in(file):
+    """The functions, classes and methods that a file defines, as INTERFACE tells them."""
+    told = []
+    for node in tree_of(file).body:
+        if isinstance(node, ast.FunctionDef):
+            told.append(with_arguments(node.name, node, 0))
+        elif isinstance(node, ast.ClassDef):
+            told.append(node.name)
+            for part in node.body:
+                if isinstance(part, ast.FunctionDef):
+                    name = node.name if part.name == "__init__" else node.name + "." + part.name
+                    told.append(with_arguments(name, part, 1))
+    return told
 
 
 def in_each_file(check):
@@ -114,6 +151,10 @@ class LanguageTest(unittest.TestCase):
                     seen.add(name)
                     todo += imports.get(name, ())
             self.assertNotIn(start, seen)
+
+    def test_l16_interface_stands_where_it_is_listed(self):
+        for module, listed in INTERFACE.items():
+            self.assertLessEqual(set(listed.split()), set(defined_in(FOLDER / (module + ".py"))))
 
     @in_each_file
     def test_l3_module_level(self, file):

@@ -1,0 +1,39 @@
+"""Worths: what may be handed in as one, and when two things are the same."""
+
+from sendstead.signs import BIG, is_text
+
+
+def sort_of(thing):
+    """Of which kind a thing is; "other" where nothing is told of such."""
+    if thing is None:
+        return "none"
+    # Python takes truths for numbers, so they are asked for first.
+    if isinstance(thing, bool):
+        return "truth"
+    if isinstance(thing, int):
+        return "number"
+    if isinstance(thing, str):
+        return "text"
+    if isinstance(thing, tuple):
+        return "tuple"
+    return "other"
+
+
+def is_plain(thing):
+    """Whether it is a worth that is no cell."""
+    sort = sort_of(thing)
+    if sort == "number":
+        return -BIG < thing < BIG
+    if sort == "text":
+        return is_text(thing)
+    return sort in ("none", "truth")
+
+
+def same(one, other):
+    """Whether two things are the same, kind for kind: 1 isn't true, and a list is no tuple."""
+    sort = sort_of(one)
+    if sort == "other" or sort != sort_of(other):
+        return False
+    if sort == "tuple":
+        return len(one) == len(other) and all([same(a, b) for a, b in zip(one, other)])
+    return one == other
