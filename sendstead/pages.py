@@ -11,11 +11,11 @@ class Page:
         self.name = name
         self.text = text
         self.trees = reader.page_trees()
-        self._words = reader.words
+        self.words = reader.words
         self._starts = tuple(reader.starts)
 
     def _place_of(self, at):
-        _, row, column = self._words[at]
+        _, row, column = self.words[at]
         return row, column
 
     def place(self, k):

@@ -100,6 +100,11 @@ def is_kind_name(word):
     return is_name(word, CAPITALS, SMALL + CAPITALS + FIGURES)
 
 
+def is_page_name(word):
+    """Whether it is the name of a page by its signs."""
+    return is_name(word, SMALL, SMALL)
+
+
 def is_name(word, first, others):
     """Whether it begins with one of the first signs, and goes on with others, not too long."""
     if not 1 <= len(word) <= MOST_NAME_SIGNS:

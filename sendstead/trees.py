@@ -43,6 +43,30 @@ def code_within(method, node):
     return code
 
 
+def scopes_of(method, code):
+    """The rows of names that can be named in a code, from the innermost: of blocks, then of the method."""
+    nodes = nodes_with_codes(method)
+    scopes = []
+    while code != METHOD_CODE:
+        (_, parameters, _), around = nodes[code]
+        scopes.append(parameters)
+        code = around
+    return (*scopes, names_of(method))
+
+
+def found_name(scopes, word):
+    """For what a name stands: how many steps outward, and its number there; None where it is nothing."""
+    for steps, words in enumerate(scopes):
+        if word in words:
+            return steps, words.index(word)
+    return None
+
+
+def fields_named(method):
+    """The fields that a method names or sets, each as often as it does."""
+    return tuple([node[1] for node in nodes_of(method) if node[0] in ("field", "setfield")])
+
+
 def code_tree(method, code):
     """The tree of a code: the method or a block, both of which end with their parameters and statements."""
     if code == METHOD_CODE:
@@ -62,6 +86,11 @@ def nodes_with_codes(method):
         nodes.append((node, code))
         todo.extend([(part, code_inside) for part in parts_of(node)[::-1]])
     return nodes
+
+
+def many_nodes(node):
+    """How many nodes there are: the node itself and those within it."""
+    return 1 + sum([many_nodes(part) for part in parts_of(node)])
 
 
 def parts_of(node):

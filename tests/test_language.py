@@ -47,6 +47,14 @@ INTERFACE = {
     ),
     "writing": "written(trees)",
     "leadings": "leads(before,behind,thing)",
+    "books": (
+        "Book Book.load(name,text) Book.gone(kind,message) Book.field(kind,word,worth) Book.lost(kind,word)"
+        " Book.under(kind,parent) Book.kinds() Book.parent(kind) Book.own(kind) Book.fields(kind) Book.line(kind)"
+        " Book.messages(kind) Book.finds(kind,message) Book.version_of(v) Book.pages() Book.stamp() Book.copy()"
+        " Book.shown() Book.__len__() Book.__eq__(other)"
+    ),
+    "rows": "rows_of(method,node) rows_stand(method,node,thing)",
+    "sweeps": "sweep_stands(thing)",
 }
 NOWHERE = set("register mro elements open input law version_info with_traceback add_note".split())
 NO_WORDS = re.compile(
@@ -177,6 +185,24 @@ class LanguageTest(unittest.TestCase):
             if isinstance(node, ast.ClassDef):
                 names = [part.name for part in node.body if isinstance(part, ast.FunctionDef)]
                 self.assertEqual(len(names), len(set(names)), node.name)
+
+    def test_l18_no_name_is_a_method_and_an_attribute(self):
+        for file in FILES:
+            for node in nodes_of(file, ast.ClassDef):
+                methods = {part.name for part in node.body if isinstance(part, ast.FunctionDef)}
+                stored = {part.attr for part in ast.walk(node)
+                          if isinstance(part, ast.Attribute) and isinstance(part.ctx, ast.Store)}
+                self.assertFalse(methods & stored, node.name)
+
+    def test_methods_of_one_name_take_the_same(self):
+        """So that each call passes what any method of that name takes."""
+        told = {}
+        for file in FILES:
+            for node in nodes_of(file, ast.ClassDef):
+                for part in node.body:
+                    if isinstance(part, ast.FunctionDef) and not part.name.startswith("__"):
+                        taken = with_arguments(part.name, part, 1).count(",")
+                        self.assertEqual(told.setdefault(part.name, taken), taken, (node.name, part.name))
 
     @in_each_file
     def test_l6_l7_statements_and_expressions(self, file):

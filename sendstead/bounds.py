@@ -1,0 +1,12 @@
+"""The bounds of books, and of what stands in them."""
+
+MOST_KINDS = 8
+MOST_OWN = 4
+MOST_FIELDS = 8
+MOST_MESSAGES = 8
+MOST_PARAMETERS = 4
+MOST_NAMES = 12
+MOST_NODES = 150
+MOST_VERSIONS = 200
+MOST_PAGES = 60
+MOST_WORTHS_OF_LIST = 30
