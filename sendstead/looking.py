@@ -116,8 +116,9 @@ class Looker:
 
     def set_name(self, word, scopes):
         """Look at a name that is set or taken."""
-        steps, number = found_name(scopes, word)
-        self.refuse_if(steps == len(scopes) - 1 and number >= MOST_NAMES, "many")
+        # No block gets this far with so many parameters, so this is the number of a name of the method.
+        _, number = found_name(scopes, word)
+        self.refuse_if(number >= MOST_NAMES, "many")
         self.at += 1
 
     def field_name(self, word):

@@ -155,7 +155,7 @@ class FormsTest(SweepCase):
         self.assert_refused(((5, told),), (), (), ())
 
     def test_no_cells(self):
-        for told in (None, (), "list", 0, True, ("cell", 0), ("other", ()), (1, ()), (None,), ("list",), ("thing",), ("names",),
+        for told in (None, (), "list", 0, True, ("cell", 0), ("other", ()), ("other", (), None), (1, ()), (None,), ("list",), ("thing",), ("names",),
                      ("block",), ["list", ()], {}, {"list": ()}, (("list", ()),), ("List", ()), (b"list", ()), ("", ())):
             self.assert_no_cell(told)
 
