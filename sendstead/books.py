@@ -31,7 +31,7 @@ class Book:
         page = Page(name, text)
         kinds = with_kinds_of(self._kinds, page.trees)
         messages = {kind: list(self._heads.get(kind, ())) for kind in kinds.kinds()}
-        Looker(page, (THING, *self._kinds.kinds()), kinds, messages).look()
+        Looker(page, (THING, *self._kinds.kinds()), kinds, messages).look_through()
         came = versions_of(page)
         first = len(self._versions)
         if first + len(came) > MOST_VERSIONS or len(self._page_names) == MOST_PAGES:
@@ -170,6 +170,12 @@ class Book:
         book._stamp = self._stamp
         return book
 
+    def is_within_bounds(self):
+        """Whether its kinds are as they may be: without rings, no field twice in a line, not too many."""
+        kinds = self._kinds
+        endless = any([kinds.is_endless(kind) for kind in kinds.kinds()])
+        return not (endless or kinds.clash() or kinds.are_too_many())
+
     def present_trees(self):
         """The trees of the present kinds, in their order, each one's methods by messages, rising."""
         return tuple([("kind", kind, self.parent(kind), self.own(kind), self._methods(kind)) for kind in self.kinds()])
@@ -186,6 +192,17 @@ class Book:
 
     def __eq__(self, other):
         return isinstance(other, Book) and self.present_trees() == other.present_trees()
+
+
+def book_from(kinds, versions, pages):
+    """The book that has these kinds, each as (name, parent, own fields, messages with versions)."""
+    book = Book()
+    for kind, parent, own, heads in kinds:
+        book._kinds = book._kinds.with_kind(kind, parent, own)
+        book._heads[kind] = dict(heads)
+    book._versions = list(versions)
+    book._page_names = list(pages)
+    return book
 
 
 def with_kinds_of(kinds, trees):

@@ -2,7 +2,7 @@
 
 from sendstead.bounds import MOST_FIELDS, MOST_NAMES, MOST_WORTHS_OF_LIST
 from sendstead.signs import is_kind_name
-from sendstead.worths import is_plain, sort_of
+from sendstead.worths import is_plain, is_row, sort_of
 
 
 def is_number_from_0(thing):
@@ -13,11 +13,6 @@ def is_number_from_0(thing):
 def is_cell_word(thing):
     """Whether it tells a cell: ("cell", number)."""
     return is_row(thing, 2) and is_text_of(thing[0], "cell") and is_number_from_0(thing[1])
-
-
-def is_row(thing, length):
-    """Whether it is a tuple of this length."""
-    return isinstance(thing, tuple) and len(thing) == length
 
 
 def is_text_of(thing, text):

@@ -31,7 +31,7 @@ class Looker:
             _, row, column = self.words[self.at]
             raise Fault(self.page.name, row, column, why)
 
-    def look(self):
+    def look_through(self):
         """Look at all of the page."""
         for tree in self.page.trees:
             self.at += 1
@@ -98,14 +98,14 @@ class Looker:
         """Look at a statement."""
         sort = node[0]
         if sort == "set":
-            self.set_name(node[1], scopes)
+            self.look_set_name(node[1], scopes)
         elif sort == "setfield":
-            self.field_name(node[1])
+            self.look_field(node[1])
         self.at += 1
         if sort == "try":
             _, first, word, second = node
             self.statements_within(first, scopes)
-            self.set_name(word, scopes)
+            self.look_set_name(word, scopes)
             self.statements_within(second, scopes)
             return
         self.look_expression(node[2] if sort in ("set", "setfield") else node[1], scopes)
@@ -114,14 +114,14 @@ class Looker:
             for statements in node[2:]:
                 self.statements_within(statements, scopes)
 
-    def set_name(self, word, scopes):
+    def look_set_name(self, word, scopes):
         """Look at a name that is set or taken."""
         # No block gets this far with so many parameters, so this is the number of a name of the method.
         _, number = found_name(scopes, word)
         self.refuse_if(number >= MOST_NAMES, "many")
         self.at += 1
 
-    def field_name(self, word):
+    def look_field(self, word):
         """Look at a field."""
         self.refuse_if(word not in self.known_fields, "field")
         self.at += 1
@@ -130,7 +130,7 @@ class Looker:
         """Look at an expression."""
         sort = node[0]
         if sort == "field":
-            self.field_name(node[1])
+            self.look_field(node[1])
             return
         self.refuse_if(sort == "name" and found_name(scopes, node[1]) is None, "name")
         self.at += 1

@@ -19,11 +19,11 @@ def rows_stand(method, node, thing):
 
 
 class RowMaker:
-    """Makes the rows of one code. number is that of the next node, scopes are the names' rows from here outward."""
+    """Makes the rows of one code. number is that of the next node, visible are the names' rows from here outward."""
 
-    def __init__(self, scopes, number):
+    def __init__(self, visible, number):
         self.rows = []
-        self.scopes = scopes
+        self.visible = visible
         self.number = number
 
     def put(self, *row):
@@ -35,7 +35,7 @@ class RowMaker:
         self.rows.append(None)
         return len(self.rows) - 1
 
-    def fill(self, at, node, word):
+    def fill_in(self, at, node, word):
         """Let an open row lead to behind the last row."""
         self.rows[at] = (node, word, len(self.rows))
 
@@ -63,7 +63,7 @@ class RowMaker:
         else:
             self.expression_rows(node[-1])
             if sort == "set":
-                self.put(number, "setname", *found_name(self.scopes, node[1]))
+                self.put(number, "setname", *found_name(self.visible, node[1]))
             elif sort == "setfield":
                 self.put(number, "setfield", node[1])
             else:
@@ -76,9 +76,9 @@ class RowMaker:
         unless = self.leave_open()
         self.all_statement_rows(first)
         jump = self.leave_open()
-        self.fill(unless, number, "unless")
+        self.fill_in(unless, number, "unless")
         self.all_statement_rows(second)
-        self.fill(jump, number, "jump")
+        self.fill_in(jump, number, "jump")
 
     def while_rows(self, number, node):
         """Put the rows of a while."""
@@ -88,7 +88,7 @@ class RowMaker:
         unless = self.leave_open()
         self.all_statement_rows(statements)
         self.put(number, "jump", beat)
-        self.fill(unless, number, "unless")
+        self.fill_in(unless, number, "unless")
 
     def try_rows(self, number, node):
         """Put the rows of a try."""
@@ -97,10 +97,10 @@ class RowMaker:
         self.all_statement_rows(first)
         self.put(number, "untry")
         jump = self.leave_open()
-        self.fill(start, number, "try")
-        self.put(number, "setname", *found_name(self.scopes, word))
+        self.fill_in(start, number, "try")
+        self.put(number, "setname", *found_name(self.visible, word))
         self.all_statement_rows(second)
-        self.fill(jump, number, "jump")
+        self.fill_in(jump, number, "jump")
 
     def all_expression_rows(self, nodes):
         """Put the rows of expressions."""
@@ -118,7 +118,7 @@ class RowMaker:
         elif sort == "self":
             self.put(number, "self")
         elif sort == "name":
-            self.put(number, "name", *found_name(self.scopes, node[1]))
+            self.put(number, "name", *found_name(self.visible, node[1]))
         elif sort in ("field", "new"):
             self.put(number, sort, node[1])
         elif sort == "block":

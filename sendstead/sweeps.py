@@ -1,9 +1,9 @@
 """Sweeps: the judge of a sweep's paper."""
 
 from sendstead.cells import (
-    addresses_among, is_cell, is_number_from_0, is_row, moved_worths, with_worths, worths_in,
+    addresses_among, is_cell, is_number_from_0, moved_worths, with_worths, worths_in,
 )
-from sendstead.worths import same
+from sendstead.worths import is_row, same
 
 
 def sweep_stands(thing):

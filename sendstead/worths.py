@@ -19,6 +19,16 @@ def sort_of(thing):
     return "other"
 
 
+def is_number_within(thing, least, most):
+    """Whether it is a number within these bounds."""
+    return sort_of(thing) == "number" and least <= thing <= most
+
+
+def is_row(thing, length):
+    """Whether it is a tuple of this length."""
+    return isinstance(thing, tuple) and len(thing) == length
+
+
 def is_plain(thing):
     """Whether it is a worth that is no cell."""
     sort = sort_of(thing)
