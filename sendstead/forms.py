@@ -3,7 +3,9 @@
 from sendstead.bounds import MOST_NAMES, MOST_NODES, MOST_PARAMETERS
 from sendstead.reading import MOST_OPEN, is_message
 from sendstead.signs import MOST_COLUMNS, MOST_ROWS, is_free, is_kind_name
-from sendstead.trees import METHOD_CODE, code_within, codes_of, found_name, names_of, nodes_of, parameters_of, scopes_of
+from sendstead.trees import (
+    METHOD_CODE, codes_of, found_name, names_of, nodes_of, nodes_with_codes, parameters_of, scopes_of,
+)
 from sendstead.worths import is_number_within, is_plain, is_row, sort_of
 
 STATEMENTS = ("set", "setfield", "do", "say", "return", "raise", "if", "while", "try")
@@ -83,7 +85,7 @@ def are_parameters_right(method):
 def do_names_stand(method):
     """Whether each name of an e stands for something."""
     scopes = {code: scopes_of(method, code) for code in codes_of(method)}
-    named = [(node[1], code_within(method, at)) for at, node in enumerate(nodes_of(method)) if node[0] == "name"]
+    named = [(node[1], code) for node, code in nodes_with_codes(method) if node[0] == "name"]
     return all([found_name(scopes[code], word) is not None for word, code in named])
 
 

@@ -48,23 +48,31 @@ class DrawnOutTest(unittest.TestCase):
     def test_plain_and_quick_and_reference(self):
         chance = random.Random(1)
         seen = {}
-        for round_number in range(60):
+        for _ in range(24):
             room, deep = chance.choice(((120, 20), (30, 5), (60, 8), (400, 40), (8, 3), (15, 20)))
-            plain, quick = Stead(room=room, deep=deep), Stead(quick=True, room=room, deep=deep)
-            reference = Reference(room, deep)
-            text = made_program(chance)
-            for stead in (plain, quick, reference.book):
-                stead.load("main", text)
-            for number in range(60):
-                deed = made_deed(chance, plain, number)
-                self.do_deed(plain, quick, reference, deed)
-                status, _, _, _, fault, _, _ = plain.view()
-                key = (status, fault[0] if fault and isinstance(fault[0], str) else None)
-                seen[key] = seen.get(key, 0) + 1
-                if number % 7 == 0:
-                    plain, quick = self.other_steads(chance, plain, quick)
-        for word in ("nomethod", "count", "operand", "noplace", "bynought", "big", "long", "deep", "full", "notruth"):
-            self.assertGreater(seen.get(("failed", word), 0), 0, (word, seen))
+            self.draw_out(chance, room, deep, 60, seen)
+        for word in ("nomethod", "count", "operand", "bynought", "deep", "full", "notruth", "paused", "ended", "idle"):
+            self.assertGreater(seen.get(word, 0), 0, (word, seen))
+
+    def draw_out(self, chance, room, deep, many, seen):
+        """Many deeds on a plain and a quick stead and on the reference; seen counts what they led to."""
+        plain, quick = Stead(room=room, deep=deep), Stead(quick=True, room=room, deep=deep)
+        reference = Reference(room, deep)
+        text = made_program(chance)
+        for stead in (plain, quick, reference.book):
+            stead.load("main", text)
+        for number in range(many):
+            deed = made_deed(chance, plain, number)
+            self.do_deed(plain, quick, reference, deed)
+            status, _, _, _, fault, _, _ = plain.view()
+            word = fault[0] if fault and isinstance(fault[0], str) else status
+            seen[word] = seen.get(word, 0) + 1
+            if number % 7 == 0:
+                self.check_others(plain, quick)
+            if number % 11 == 0:
+                plain, quick = self.other_steads(chance, plain, quick)
+                if plain.looked() == 0:
+                    reference.many_looked = 0
 
     def do_deed(self, plain, quick, reference, deed):
         ahead = plain.book.copy()
@@ -97,8 +105,8 @@ class DrawnOutTest(unittest.TestCase):
             self.assertIs(place_stands(quick.book, paper), True, paper)
         self.assertLessEqual(quick.looked(), plain.looked() if quick.looked() else 0)
 
-    def other_steads(self, chance, plain, quick):
-        """Other steads in the place of these, that stand alike; those that were read are as worn, too."""
+    def check_others(self, plain, quick):
+        """Twins, swept or not, and steads that were read stand alike and go on alike."""
         for stead in (plain, quick):
             ahead = stead.view()
             twin = stead.twin()
@@ -112,6 +120,14 @@ class DrawnOutTest(unittest.TestCase):
                 deed = ("run", 20, ())
                 self.assertEqual(tried(lambda: do(read, deed)), tried(lambda: do(other, deed)))
                 self.assertEqual(read.view(), other.view())
+
+    def other_steads(self, chance, plain, quick):
+        """Steads that stand alike, perhaps others: twins, or read from the image of the other way."""
+        choice = chance.randrange(3)
+        if choice == 0:
+            return plain.twin(), quick.twin()
+        if choice == 1:
+            return read_image(quick.image()), read_image(plain.image(), quick=True)
         return plain, quick
 
 
