@@ -566,6 +566,24 @@ class DrawnImagesTest(ImageCase):
                     self.assertEqual(repr(stead.image()), repr(other))
         self.assertGreater(read, 5)
 
+    def test_what_waits_in_es_within_es(self):
+        text = ("kind A under Thing method to : say 1 return 4 end\nmethod go : x := [ 1 [ 2 3 ( 0 + [ ( self to ) 5 ] ) ] 6 ] end\n"
+                "method on : x := [ 1 [ 2 3 ( { a b c | say a } call 7 ( self to ) 9 ) ] ( self what ) ] end end")
+        for message, many in (("go", 4), ("on", 5)):
+            for quick in (False, True):
+                stead = Stead(quick=quick)
+                stead.load("a", text)
+                stead.begin("A", message)
+                stead.run(1)
+                self.assertEqual(len(stead.view()[5][0][6]), many)
+                for way in (False, True):
+                    other = read_image(stead.image(), quick=way)
+                    twin = stead.twin()
+                    self.assertEqual((other.run(9), twin.run(9)), (2, 2) if message == "go" else (3, 3))
+                    self.assertEqual(other.view(), twin.view())
+                for wrong in ((1,) * (many - 1), (1,) * (many + 1), ()):
+                    self.assert_no_image(bent(stead.image(), (6, 5, 0, 6), wrong))
+
     def test_one_that_a_pair_wrote(self):
         pair = Pair(TEXT)
         pair.begin("A", "go", (1,))

@@ -55,6 +55,16 @@ INTERFACE = {
     ),
     "rows": "rows_of(method,node) rows_stand(method,node,thing)",
     "sweeps": "sweep_stands(thing)",
+    "places": "all_rows(method) place_stands(book,thing) stops_stand(book,view,thing)",
+    "steads": (
+        "Stead(*,quick=False,room=ROOM,deep=DEEP) Stead.begin(kind,message,worths=()) Stead.run(beats,*,marks=())"
+        " Stead.again(k) Stead.named(k,word,worth) Stead.forget() Stead.load(name,text) Stead.gone(kind,message)"
+        " Stead.field(kind,word,worth) Stead.lost(kind,word) Stead.under(kind,parent) Stead.sweep() Stead.view()"
+        " Stead.where(k) Stead.fault_place() Stead.looked() Stead.places() Stead.stops() Stead.cells() Stead.image()"
+        " Stead.twin() Stead.__len__() Stead.__eq__(other)"
+    ),
+    "images": "read_image(thing,*,quick=False)",
+    "desks": "deed_text(deed) read_deeds(text) do(stead,deed) Desk(stead) Desk.do(text)",
 }
 NOWHERE = set("register mro elements open input law version_info with_traceback add_note".split())
 NO_WORDS = re.compile(
@@ -83,8 +93,10 @@ def bound_names(file):
 
 
 def with_arguments(name, function, first):
-    """A function's name with those of its arguments from the first on that a caller passes."""
-    return "%s(%s)" % (name, ",".join(argument.arg for argument in function.args.args[first:]))
+    """A function's name with those of its arguments from the first on that a caller passes, and their defaults."""
+    copied = ast.parse(ast.unparse(function)).body[0].args
+    copied.args = copied.args[first:]
+    return "%s(%s)" % (name, ast.unparse(copied).replace(" ", ""))
 
 
 def defined_in(file):
@@ -201,7 +213,7 @@ class LanguageTest(unittest.TestCase):
             for node in nodes_of(file, ast.ClassDef):
                 for part in node.body:
                     if isinstance(part, ast.FunctionDef) and not part.name.startswith("__"):
-                        taken = with_arguments(part.name, part, 1).count(",")
+                        taken = len(part.args.args) + len(part.args.kwonlyargs)
                         self.assertEqual(told.setdefault(part.name, taken), taken, (node.name, part.name))
 
     @in_each_file

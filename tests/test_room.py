@@ -236,11 +236,12 @@ class SweepsOfSteadsTest(SteadCase):
             self.assertEqual(stead.sweep()[0], behind)
 
     def test_long_runs_leave_few_cells(self):
-        text = "i := 0 while ( i < 5000 ) then i := ( i + 1 ) do ( self to ) end"
-        pair = begun(text, more="more A method to : x := [ 1 ] end end")
+        # A method without statements is begun at no beat, and its surroundings weigh nothing.
+        text = "i := 0 while ( i < 50000 ) then i := ( i + 1 )\ndo [ ( self to ) ( self to ) ( self to ) ( self to ) ] end"
+        pair = begun(text, more="more A method to : end end", room=400)
         for _ in range(5):
             pair.run(2000)
-            self.assertLess(max(len(pair.plain.cells()), len(pair.quick.cells())), 4000)
+            self.assertLess(max(len(pair.plain.cells()), len(pair.quick.cells())), 2000)
 
     def test_made_up_runs_with_sweeps(self):
         chance = random.Random(4)
