@@ -113,7 +113,7 @@ class PlainWay(Way):
         elif sort == "raise":
             raise Raised(taken[0])
         elif number in self.plan(self.frame().version).follow:
-            self.do_plain(number, node, taken[0])
+            self.do_plain(node, taken[0])
             self.go_to(self.plan(self.frame().version).follow[number])
         else:
             self.put_worth(number, self.worth_of(number, node, taken))
@@ -125,13 +125,13 @@ class PlainWay(Way):
         into, past = self.plan(self.frame().version).entries[number]
         self.go_to(into if worth else past)
 
-    def do_plain(self, number, node, worth):
+    def do_plain(self, node, worth):
         """Do what a statement is for that has a worth and goes on behind itself."""
         sort = node[0]
         if sort == "set":
             self.set_word(node[1], worth)
         elif sort == "setfield":
-            self.set_field(number, node[1], worth)
+            self.set_field(node[1], worth)
         elif sort == "say":
             self.say(worth)
 
@@ -145,7 +145,7 @@ class PlainWay(Way):
         if sort == "name":
             return self.name_worth(*self.find_word(node[1]))
         if sort == "field":
-            return self.field_worth(number, node[1])
+            return self.field_worth(node[1])
         if sort == "new":
             return self.new_thing(node[1])
         if sort == "list":
@@ -154,12 +154,12 @@ class PlainWay(Way):
             return self.new_block(number)
         return None
 
-    def look(self, _, kind, message):
+    def look(self, kind, message):
         """The version that a kind finds for a message, or None."""
         self.many_looked += 1
         return self.state.book.finds(kind, message)
 
-    def field_number(self, _, kind, word):
+    def field_number(self, kind, word):
         """The number of a field among those of a kind."""
         fields = fields_of(self.state.book, kind)
         if word not in fields:

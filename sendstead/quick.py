@@ -3,7 +3,7 @@
 from sendstead.raising import Raised
 from sendstead.rows import rows_of
 from sendstead.states import PAUSED
-from sendstead.trees import METHOD_CODE, codes_of
+from sendstead.trees import codes_of
 from sendstead.ways import Way, fields_of
 
 
@@ -110,7 +110,7 @@ class QuickWay(Way):
             self.do_leap(word, *rest)
         elif word in ("drop", "say", "return", "raise", "setname", "setfield"):
             (worth,) = self.take_waiting(1)
-            self.do_use(node, word, worth, rest)
+            self.do_use(word, worth, rest)
         elif word not in ("try", "untry"):
             frame.waiting.append(self.worth_for(node, word, rest))
 
@@ -133,7 +133,7 @@ class QuickWay(Way):
                 return
         self.row = target
 
-    def do_use(self, node, word, worth, rest):
+    def do_use(self, word, worth, rest):
         """Use the worth that waited."""
         if word == "say":
             self.say(worth)
@@ -144,7 +144,7 @@ class QuickWay(Way):
         elif word == "setname":
             self.set_name(*rest, worth)
         elif word == "setfield":
-            self.set_field(node, rest[0], worth)
+            self.set_field(rest[0], worth)
 
     def worth_for(self, node, word, rest):
         """The worth that a row puts behind those that wait."""
@@ -155,7 +155,7 @@ class QuickWay(Way):
         if word == "name":
             return self.name_worth(*rest)
         if word == "field":
-            return self.field_worth(node, rest[0])
+            return self.field_worth(rest[0])
         if word == "new":
             return self.new_thing(rest[0])
         if word == "list":
@@ -167,7 +167,7 @@ class QuickWay(Way):
         frame = self.frame()
         return frame.version, self.code(frame).first + self.row - 1
 
-    def look(self, _, kind, message):
+    def look(self, kind, message):
         """The version that a kind finds for a message, or None; the place may remember it."""
         place = self.place_now()
         known, version = self.remembered.get(place, (None, None))
@@ -179,7 +179,7 @@ class QuickWay(Way):
             self.remembered[place] = (kind, version)
         return version
 
-    def field_number(self, _, kind, word):
+    def field_number(self, kind, word):
         """The number of a field among those of a kind; the place may remember it."""
         place = self.place_now()
         known, number = self.remembered.get(place, (None, None))

@@ -84,7 +84,7 @@ class Way:
         """Send a message: a frame is begun, or the answer waits at once."""
         cell = self.state.room.cell_of(receiver)
         if cell is not None and cell[0] == "thing":
-            version = self.look(node, cell[1], message)
+            version = self.look(cell[1], message)
             if version is not None:
                 self.call_frame(node, version, METHOD_CODE, receiver, None, worths)
                 return
@@ -98,7 +98,7 @@ class Way:
         """Send a message to self, found from the parent of the version's kind on."""
         frame = self.frame()
         kind, _, _, _, _ = self.version_told(frame.version)
-        version = self.look(node, self.state.book.parent(kind), message)
+        version = self.look(self.state.book.parent(kind), message)
         if version is None:
             raise Raised("nomethod")
         self.call_frame(node, version, METHOD_CODE, frame.me, None, worths)
@@ -164,16 +164,16 @@ class Way:
         changed = (*worths[:number], worth, *worths[number + 1:])
         self.state.room.change(surroundings, ("names", changed, outer))
 
-    def field_worth(self, node, word):
+    def field_worth(self, word):
         """The worth of a field of self."""
         _, kind, worths = self.state.room.cell_of(self.frame().me)
-        return worths[self.field_number(node, kind, word)]
+        return worths[self.field_number(kind, word)]
 
-    def set_field(self, node, word, worth):
+    def set_field(self, word, worth):
         """Let a field of self have a worth."""
         me = self.frame().me
         _, kind, worths = self.state.room.cell_of(me)
-        number = self.field_number(node, kind, word)
+        number = self.field_number(kind, word)
         self.state.room.change(me, ("thing", kind, (*worths[:number], worth, *worths[number + 1:])))
 
     def new_thing(self, kind):

@@ -160,6 +160,20 @@ class ReadTest(ImageCase):
         stead.lost("A", "f")
         self.assert_read(stead.image())
 
+    def test_plain_unless_told(self):
+        self.assertEqual(read_image(IMAGES["paused"]).stops(), ())
+        self.assertEqual(read_image(IMAGES["paused"], quick=False).stops(), ())
+        self.assertEqual(len(read_image(IMAGES["paused"], quick=True).stops()), 4)
+
+    def test_the_smallest_and_the_largest(self):
+        for room, deep in ((1, 1), (400, 40)):
+            stead = Stead(room=room, deep=deep)
+            stead.load("a", "kind A under Thing method go : try taken e end end end")
+            self.assert_read(stead.image())
+            # It stands at the last node of all.
+            stead.begin("A", "go")
+            self.assert_read(stead.image())
+
     def test_each_said_text(self):
         stead = Stead()
         stead.load("a", "kind A under Thing method go : say -5 say none say self say [ ] say { | }\nsay 'x say ' say new Thing end end")
@@ -249,6 +263,10 @@ class BookClausesTest(ImageCase):
         # The parent may be a later kind.
         self.assert_read(bent(IMAGES["loaded"], (1,), kinds[::-1]))
 
+    def test_thing_is_no_kind_of_a_book(self):
+        for parent in ("Thing", "A"):
+            self.refused("deep", (1,), IMAGES["deep"][1] + (("Thing", parent, (), ()),))
+
     def test_heads(self):
         self.refused("deep", (1, 0, 3), (("to", 3), ("go", 0)), (("go", 0), ("go", 0)), (("go", 0), ("to", 0)), (("go", 1), ("to", 3)),
                      (("go", 2), ("to", 3)), (("go", 0), ("to", 4)), (("go", 0), ("to", -1)), (("go", 0), ("to", True)),
@@ -269,6 +287,8 @@ class BookClausesTest(ImageCase):
     def test_versions(self):
         name = "deep"
         self.refused(name, (2, 3, 0), "B", "C", "D", "Thing", "", None, 1)
+        # Of an older version, too, that nothing leads to by its kind.
+        self.refused(name, (2, 1, 0), "D", "Thing", "", None, 1)
         self.refused(name, (2, 3, 1), "go", "on", "end", "", None, 1, "+")
         self.refused(name, (2, 3, 2), "other", "", "Main", None, 1, ("later",))
         self.refused(name, (2, 3, 3, 1), "go", "end", "", None, "+")
@@ -315,6 +335,13 @@ class TreeClausesTest(ImageCase):
         self.assert_no_image(self.image(*worths, **more))
 
     E = ("none",)
+
+    def test_it_is_a_method(self):
+        image = self.image(())
+        self.assert_read(image)
+        for head in ("Method", "block", "kind", "", None, 1, ("method",), b"method"):
+            self.assert_no_image(bent(image, (2, 0, 3, 0), head))
+        self.assert_no_image(bent(bent(image, (2, 0, 1), "end"), (2, 0, 3, 1), "end"))
 
     def test_statements(self):
         e = self.E
@@ -444,9 +471,11 @@ class ViewClausesTest(ImageCase):
     def test_fault(self):
         worth, version, node = IMAGES["failed"][6][4]
         self.refused("failed", (self.V, 4), None, (), (worth, version), (worth, version, node, 0), (worth, 4, node), (worth, -1, node),
-                     (worth, version, -1), (worth, version, 99), (worth, True, node), (worth, version, True), (worth, None, node),
+                     (worth, version, -1), (worth, version, 99), (worth, 5, 0),
+                     (worth, version, 27), (worth, version, 28), (worth, True, node), (worth, version, True), (worth, None, node),
                      ("x" * 41, version, node), (("cell", 9), version, node), [worth, version, node], worth)
         self.assert_read(bent(IMAGES["failed"], (self.V, 4), (worth, 3, 0)))
+        self.assert_read(bent(IMAGES["failed"], (self.V, 4), (worth, 0, 26)))
         for name in ("new", "paused", "ended", "forgotten"):
             self.refused(name, (self.V, 4), (None, 0, 0), (), False)
 
@@ -461,7 +490,7 @@ class ViewClausesTest(ImageCase):
         numbers = (-2, 99, True, None, "0", 1.0, ())
         for at, frame in enumerate(frames):
             here = (self.V, 5, at)
-            self.refused("deep", here + (0,), -1, 4, *[other for other in numbers if other != frame[0]])
+            self.refused("deep", here + (0,), -1, 5, *[other for other in numbers if other != frame[0]])
             self.refused("deep", here + (1,), *[other for other in (-1, 0, 1, 2, 3, *numbers) if other != frame[1]])
             right = [frame[2]]
             self.refused("deep", here + (2,), -1, *[other for other in (*range(40), *numbers) if other not in right
@@ -513,11 +542,38 @@ class ViewClausesTest(ImageCase):
                 self.refused("deep", here + (1,), cell[1] + (None,), cell[1][:-1] if cell[1] else None, list(cell[1]))
                 self.refused("deep", here + (2,), ("cell", 0), ("cell", 99), *([None] if cell[2] else [("cell", at)]))
             if cell[0] == "block":
-                self.refused("deep", here + (1,), 3, 4, -1, True, None)
+                self.refused("deep", here + (1,), 3, 4, 5, -1, True, None)
                 self.refused("deep", here + (2,), -1, 0, 99, True, None)
                 self.refused("deep", here + (3,), None, ("cell", at), ("cell", 99))
                 self.refused("deep", here + (4,), None, ("cell", 0), ("cell", 99), ("cell", at))
         self.assertEqual({cell[0] for cell in cells}, {"thing", "names", "block", "list"})
+
+    def test_a_method_is_no_block(self):
+        stead = Stead()
+        stead.load("a", "kind A under Thing method go : return { | } end end")
+        stead.begin("A", "go")
+        stead.run(1)
+        image = stead.image()
+        self.assertEqual(image[6][6][0][:3], ("block", 0, 1))
+        for node in (-1, 0, 2, -2):
+            self.assert_no_image(bent(image, (6, 6, 0, 2), node))
+
+    def test_surroundings_are_no_worths(self):
+        stead = Stead()
+        stead.load("a", "kind A under Thing field f method go a : b := { | say a } do [ a ( b call ) ] end end")
+        stead.begin("A", "go", (1,))
+        stead.run(2)
+        image = stead.image()
+        self.assertEqual([cell[0] for cell in image[6][6]], ["thing", "names", "names", "block"])
+        for path in ((6, 5, 0, 5, 0), (6, 5, 0, 6, 0), (6, 6, 0, 2, 0), (6, 6, 1, 1, 0)):
+            for way in (False, True):
+                self.assertIsNotNone(read_image(bent(image, path, ("cell", 0)), quick=way))
+            self.assert_no_image(bent(image, path, ("cell", 1)))
+        stead.forget()
+        image = stead.image()
+        surroundings = (("names", (1, None), None),)
+        self.assert_no_image(bent(bent(image, (6, 3), ("cell", 0)), (6, 6), surroundings))
+        self.assert_no_image(bent(bent(bent(image, (6, 4), (("cell", 0), 0, 0)), (6, 6), surroundings), (6, 0), "failed"))
 
     def test_weight(self):
         cells = IMAGES["deep"][6][6]

@@ -228,7 +228,8 @@ class PlacesJudgeTest(SteadCase):
         pair, papers = self.papers()
         right = {paper[:2] for paper in papers}
         for version in range(3):
-            for number in range(len(all_rows(pair.book.version_of(version)[3])) + 2):
+            many = len(all_rows(pair.book.version_of(version)[3]))
+            for number in range(-many, many + 2):
                 if (version, number) not in right:
                     for kind in "ABC":
                         for what in (0, 1, 2):
@@ -312,7 +313,7 @@ class StopsTest(SteadCase):
         book, view, stops = self.view_and_stops()
         for at, stop in enumerate(stops):
             rows = rows_of(book.version_of(stop[0])[3], stop[1])
-            for row in range(len(rows)):
+            for row in range(-len(rows), len(rows) + 3):
                 if row != stop[2]:
                     self.refused(stops[:at] + (stop[:2] + (row,),) + stops[at + 1:])
 
