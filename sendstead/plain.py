@@ -75,7 +75,8 @@ class PlainWay(Way):
         if number is None:
             self.answer(None)
         else:
-            self.frame().at = number
+            frame = self.frame()
+            frame.at = number
 
     def take_raised(self, frame, at, worth):
         """Let a try take what was raised, if one does; whether it did."""

@@ -31,8 +31,9 @@ class Stead:
     def stand_as(self, book, view):
         """Take this book for one's own, and stand as a view tells."""
         self.book = book
-        self._state.book = book
-        self._state.take_view(view)
+        state = self._state
+        state.book = book
+        state.take_view(view)
 
     def _must_be_right(self, checks):
         """Refuse a deed when the stead is worn, or what was handed in isn't as told."""

@@ -24,11 +24,12 @@ class Way:
 
     def go_on(self, beats, marks):
         """Do statements till so many have begun or a marked one is to begin, or all is over; how many began."""
+        state = self.state
         begun = 0
-        while self.state.status == PAUSED and begun < beats and not (begun > 0 and self.is_marked(marks)):
-            self.state.tidy()
+        while state.status == PAUSED and begun < beats and not (begun > 0 and self.is_marked(marks)):
+            state.tidy()
             begun += 1
-            self.state.beats += 1
+            state.beats += 1
             self.do_statement()
         return begun
 
@@ -77,7 +78,8 @@ class Way:
             raise Raised("count")
         if len(self.state.frames) >= self.state.deep:
             raise Raised("deep")
-        self.frame().at = node
+        frame = self.frame()
+        frame.at = node
         self.begin_frame(version, code, me, outer, worths)
 
     def send(self, node, receiver, message, worths):

@@ -206,6 +206,12 @@ class LanguageTest(unittest.TestCase):
                           if isinstance(part, ast.Attribute) and isinstance(part.ctx, ast.Store)}
                 self.assertFalse(methods & stored, node.name)
 
+    @in_each_file
+    def test_l18_attributes_are_assigned_through_local_names(self, file):
+        for node in nodes_of(file, ast.Attribute):
+            if isinstance(node.ctx, ast.Store):
+                self.assertIsInstance(node.value, ast.Name, ast.unparse(node))
+
     def test_methods_of_one_name_take_the_same(self):
         """So that each call passes what any method of that name takes."""
         told = {}
