@@ -95,6 +95,11 @@ class PlainWay(Way):
         frame = self.frame()
         return found_name(self.scopes(frame.version, frame.node), word)
 
+    def word_worth(self, word):
+        """The worth of the name for which a word stands."""
+        steps, number = self.find_word(word)
+        return self.name_worth(steps, number)
+
     def set_word(self, word, worth):
         """Let the name for which a word stands have a worth."""
         steps, number = self.find_word(word)
@@ -144,7 +149,7 @@ class PlainWay(Way):
         if sort == "self":
             return self.frame().me
         if sort == "name":
-            return self.name_worth(*self.find_word(node[1]))
+            return self.word_worth(node[1])
         if sort == "field":
             return self.field_worth(node[1])
         if sort == "new":

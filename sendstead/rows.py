@@ -30,6 +30,11 @@ class RowMaker:
         """Put a row behind the others."""
         self.rows.append(row)
 
+    def put_of_name(self, node, word, name):
+        """Put a row that tells for what a name stands."""
+        steps, number = found_name(self.visible, name)
+        self.put(node, word, steps, number)
+
     def leave_open(self):
         """Put a row whose words aren't known yet; its number."""
         self.rows.append(None)
@@ -63,7 +68,7 @@ class RowMaker:
         else:
             self.expression_rows(node[-1])
             if sort == "set":
-                self.put(number, "setname", *found_name(self.visible, node[1]))
+                self.put_of_name(number, "setname", node[1])
             elif sort == "setfield":
                 self.put(number, "setfield", node[1])
             else:
@@ -98,7 +103,7 @@ class RowMaker:
         self.put(number, "untry")
         jump = self.leave_open()
         self.fill_in(start, number, "try")
-        self.put(number, "setname", *found_name(self.visible, word))
+        self.put_of_name(number, "setname", word)
         self.all_statement_rows(second)
         self.fill_in(jump, number, "jump")
 
@@ -118,7 +123,7 @@ class RowMaker:
         elif sort == "self":
             self.put(number, "self")
         elif sort == "name":
-            self.put(number, "name", *found_name(self.visible, node[1]))
+            self.put_of_name(number, "name", node[1])
         elif sort in ("field", "new"):
             self.put(number, sort, node[1])
         elif sort == "block":

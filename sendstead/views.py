@@ -108,7 +108,7 @@ class Looks:
             return False
         return self.are_worths_right(view)
 
-    def sort(self, worth):
+    def sort_at(self, worth):
         """The sort of the cell to which a worth leads."""
         return self.view_cells[worth[1]][0]
 
@@ -123,7 +123,7 @@ class Looks:
         for cell in self.view_cells:
             if cell[0] != "block":
                 worths.extend(cell[1] if cell[0] == "names" else worths_in(cell))
-        return all([self.sort(worth) != "names" for worth in worths if isinstance(worth, tuple)])
+        return all([self.sort_at(worth) != "names" for worth in worths if isinstance(worth, tuple)])
 
     def is_cell_right(self, cell):
         """Whether a thing has its kind's count of worths, and a block is one of a version."""
@@ -135,7 +135,7 @@ class Looks:
         if cell[0] != "block":
             return True
         _, version, node, me, surroundings = cell
-        if not is_version_of(self.book, version) or self.sort(me) != "thing":
+        if not is_version_of(self.book, version) or self.sort_at(me) != "thing":
             return False
         _, _, _, tree, _ = self.book.version_of(version)
         if node == METHOD_CODE or not is_code(tree, node):
@@ -145,7 +145,7 @@ class Looks:
     def are_surroundings_right(self, tree, code, surroundings):
         """Whether a worth leads to surroundings of a code of a method, and these outward to those around."""
         while surroundings is not None:
-            if self.sort(surroundings) != "names":
+            if self.sort_at(surroundings) != "names":
                 return False
             _, worths, surroundings = self.view_cells[surroundings[1]]
             if code == METHOD_CODE:
@@ -158,7 +158,7 @@ class Looks:
     def is_frame_right(self, frame, is_innermost):
         """Whether a frame is at a node of its code, with as many worths as it has there."""
         version, node, at, me, surroundings, given, waiting = frame
-        if not is_version_of(self.book, version) or self.sort(me) != "thing":
+        if not is_version_of(self.book, version) or self.sort_at(me) != "thing":
             return False
         _, _, _, tree, _ = self.book.version_of(version)
         if not is_code(tree, node) or not is_number_within(at, 0, many_nodes_of(self.book, version) - 1):

@@ -27,6 +27,14 @@ METHODS = set(
     " expandtabs removeprefix removesuffix rindex isascii isdecimal isnumeric istitle isidentifier isprintable"
     " translate add discard sort encode decode hex".split()
 )
+# What values of Python's own have, and which names of these own methods and own attributes may have all the same.
+OF_PYTHONS_VALUES = set().union(*(dir(sort) for sort in (str, int, bool, list, tuple, dict, set, frozenset, bytes)))
+OWN_METHODS = set(
+    "append clear copy count endswith extend find get index insert isalnum isalpha isdigit islower isspace isupper items"
+    " join keys ljust lower lstrip partition pop remove replace reverse rfind rjust rpartition rsplit rstrip setdefault"
+    " split splitlines startswith strip update upper values zfill bit_length add discard".split()
+)
+OWN_ATTRIBUTES = set("count index title find get join lower upper split strip copy add".split())
 SPECIAL = set(
     "init eq repr str len enter exit call iter lt le gt ge ne add sub mul floordiv mod pow and or xor lshift rshift neg"
     " pos invert abs bool contains getitem setitem".split()
@@ -112,6 +120,19 @@ def defined_in(file):
                     name = node.name if part.name == "__init__" else node.name + "." + part.name
                     told.append(with_arguments(name, part, 1))
     return told
+
+
+def may_stand_behind_star(node):
+    """Whether a node is a name, an attribute off a name, a literal, or a list, tuple or dict of these."""
+    if isinstance(node, ast.Starred):
+        return may_stand_behind_star(node.value)
+    if isinstance(node, (ast.List, ast.Tuple)):
+        return all(may_stand_behind_star(part) for part in node.elts)
+    if isinstance(node, ast.Dict):
+        return all(part is not None and may_stand_behind_star(part) for part in node.keys + node.values)
+    if isinstance(node, ast.Attribute):
+        return isinstance(node.value, ast.Name)
+    return isinstance(node, (ast.Name, ast.Constant))
 
 
 def in_each_file(check):
@@ -231,6 +252,20 @@ class LanguageTest(unittest.TestCase):
             self.assertIsNotNone(node.type)
 
     @in_each_file
+    def test_l7_calls_with_stars(self, file):
+        for node in nodes_of(file, ast.Call):
+            starred = [isinstance(part, ast.Starred) for part in node.args]
+            # What stands behind a star's own part is looked at, too.
+            parts = node.args[starred.index(True):] if True in starred else []
+            doubled = [part.value for part in node.keywords if part.arg is None]
+            if doubled:
+                self.assertEqual(len(node.keywords), 1, ast.unparse(node))
+                self.assertNotIsInstance(doubled[0], (ast.Constant, ast.Dict))
+                parts = node.args
+            for part in parts + doubled:
+                self.assertTrue(may_stand_behind_star(part), ast.unparse(node))
+
+    @in_each_file
     def test_l8_builtins(self, file):
         used = {node.id for node in nodes_of(file, ast.Name)} & set(dir(builtins))
         self.assertLessEqual(used - {"__name__"}, BUILTINS)
@@ -271,6 +306,16 @@ class LanguageTest(unittest.TestCase):
         for node in nodes_of(file, ast.Call):
             if isinstance(node.func, ast.Attribute):
                 self.assertIn(node.func.attr, METHODS | own | stored | {"__init__"})
+
+    @in_each_file
+    def test_l26_own_methods_and_attributes(self, file):
+        for node in nodes_of(file, ast.ClassDef):
+            for part in node.body:
+                if isinstance(part, ast.FunctionDef) and part.name not in OWN_METHODS:
+                    self.assertTrue(part.name.startswith("__") or part.name not in OF_PYTHONS_VALUES, part.name)
+        for node in nodes_of(file, ast.Attribute):
+            if isinstance(node.ctx, ast.Store) and node.attr not in OWN_ATTRIBUTES:
+                self.assertNotIn(node.attr, OF_PYTHONS_VALUES)
 
     @in_each_file
     def test_l27_strings(self, file):
