@@ -1,7 +1,8 @@
 """Deeds: their forms, and the words of the worths in them."""
 
+from sendstead.cells import is_number_from_0
 from sendstead.reading import is_message
-from sendstead.signs import BIG, FIGURES, MOST_ROWS, has_only, is_free, is_kind_name, is_number, is_page_name, is_text
+from sendstead.signs import FIGURES, MOST_ROWS, has_only, is_free, is_kind_name, is_number, is_page_name, is_text
 from sendstead.steads import MOST_BEATS
 from sendstead.worths import is_number_within, is_plain, is_row, sort_of
 
@@ -11,8 +12,9 @@ PARTS_OF_DEEDS = {
     "name": ("number", "word", "worth"), "forget": (), "gone": ("kind", "message"), "field": ("kind", "word", "worth"),
     "lost": ("kind", "word"), "under": ("kind", "kind"), "sweep": (), "load": ("page", "text"),
 }
-# Python reads and writes no numbers of very many figures; so many frames there never are.
-MOST_FIGURES = 600
+# Python reads and writes no numbers of very many figures at once, so these are read and written in parts of so many.
+PART_FIGURES = 60
+PART = 10 ** 60
 
 
 def is_deed(thing):
@@ -32,7 +34,7 @@ def is_part_of_deed(part, thing):
     if part == "beats":
         return is_number_within(thing, 0, MOST_BEATS)
     if part == "number":
-        return is_number_within(thing, 0, BIG ** 50 - 1)
+        return is_number_from_0(thing)
     if part == "worth":
         return is_plain(thing)
     if part == "worths":
@@ -60,9 +62,27 @@ def is_word_of_deed(part, word):
 
 def is_figures(word):
     """Whether it is a number from 0 on, without needless noughts."""
-    if not 1 <= len(word) <= MOST_FIGURES or not has_only(word, FIGURES):
+    if word == "" or not has_only(word, FIGURES):
         return False
     return word == "0" or not word.startswith("0")
+
+
+def number_of(figures):
+    """The number from 0 on that figures tell, however many."""
+    first = len(figures) % PART_FIGURES
+    number = int("0" + figures[:first])
+    for at in range(first, len(figures), PART_FIGURES):
+        number = number * PART + int(figures[at:at + PART_FIGURES])
+    return number
+
+
+def figures_of(number):
+    """The figures of a number from 0 on, however many."""
+    parts = []
+    while number >= PART:
+        number, part = divmod(number, PART)
+        parts.append(str(part).zfill(PART_FIGURES))
+    return "".join([str(number), *parts[::-1]])
 
 
 def word_of_worth(worth):

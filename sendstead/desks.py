@@ -1,6 +1,6 @@
 """Desks: deeds as texts, which are done whole or not at all."""
 
-from sendstead.deeds import is_deed, is_figures, worth_of_word, word_of_worth
+from sendstead.deeds import figures_of, is_deed, is_figures, number_of, worth_of_word, word_of_worth
 from sendstead.errors import NoDeed, SteadError, Undone
 
 
@@ -24,10 +24,15 @@ def words_of_deed(word, rest):
         return ["-" if kind is None else kind, message, *[word_of_worth(worth) for worth in worths]]
     if word == "run":
         beats, marks = rest
-        return [str(beats), *[f"{page}:{row}" for page, row in marks]]
+        return [figures_of(beats), *[f"{page}:{figures_of(row)}" for page, row in marks]]
     if word in ("name", "field"):
-        return [*[str(part) for part in rest[:-1]], word_of_worth(rest[-1])]
-    return [str(part) for part in rest]
+        return [*[word_of_part(part) for part in rest[:-1]], word_of_worth(rest[-1])]
+    return [word_of_part(part) for part in rest]
+
+
+def word_of_part(part):
+    """The word of a part of a deed that is a number from 0 on or a word."""
+    return part if isinstance(part, str) else figures_of(part)
 
 
 def read_deeds(text):
@@ -82,7 +87,7 @@ def deed_of_words(word, words):
 
 def number_of_word(word):
     """The number that figures tell; other words as they stand."""
-    return int(word) if is_figures(word) else word
+    return number_of(word) if is_figures(word) else word
 
 
 def mark_of_word(word):

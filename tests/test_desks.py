@@ -71,11 +71,47 @@ NO_DEEDS = (
 )
 
 
+# Numbers of frames far away, with their figures; Python by itself doesn't write all of them.
+FAR = tuple((10 ** many, "1" + "0" * many) for many in (59, 60, 61, 119, 120, 599, 600, 601, 639, 640, 641, 4299, 4300, 4301, 20000))
+FAR += tuple((10 ** many - 1, "9" * many) for many in (59, 60, 61, 120, 600, 601, 4300, 4301, 20000))
+FAR += tuple((int("123456789" * 9) * 10 ** many + 7, "123456789" * 9 + "0" * (many - 1) + "7") for many in (1, 39, 40, 500, 5000))
+
+
 class TextsTest(unittest.TestCase):
     def test_there_and_back(self):
         for deed, text in ROWS:
             self.assertEqual(deed_text(deed), text)
             self.assertEqual(repr(read_deeds(text)), repr((deed,)))
+
+    def test_frames_far_away(self):
+        for k, figures in FAR:
+            self.assertTrue(deed_text(("again", k)) == "again %s\n" % figures)
+            self.assertTrue(deed_text(("name", k, "a", "7")) == "name %s a '7\n" % figures)
+            self.assertTrue(read_deeds("sweep\nagain %s\nforget\n" % figures) == (("sweep",), ("again", k), ("forget",)))
+            self.assertTrue(read_deeds("name %s a -7\n" % figures) == (("name", k, "a", -7),))
+
+    def test_each_count_of_figures(self):
+        chance = random.Random(5)
+        for many in range(1, 260):
+            figures = chance.choice("123456789") + "".join(chance.choice("0123456789") for _ in range(many - 1))
+            self.assertEqual(read_deeds("again %s\n" % figures), (("again", int(figures)),))
+            self.assertEqual(deed_text(("again", int(figures))), "again %s\n" % figures)
+
+    def test_frames_far_away_that_are_none(self):
+        for k, figures in FAR:
+            for wrong in ("0" + figures, "-" + figures, "+" + figures, figures + "x", figures + ".0", "x" + figures, figures[:1] + "_" + figures[1:]):
+                for row in ("again %s\n" % wrong, "name %s a 1\n" % wrong):
+                    with self.assertRaises(NoDeed):
+                        read_deeds(row)
+            for row in ("run %s\n", "run 1 main:%s\n", "name 0 a %s\n", "field A x %s\n", "begin A go %s\n", "forget %s\n"):
+                with self.assertRaises(NoDeed):
+                    read_deeds(row % figures)
+            for deed in (("again", -k), ("name", -k, "a", 1), ("name", 0, "a", k), ("run", k, ()), ("run", 1, (("main", k),)), ("field", "A", "x", -k),
+                         ("begin", "A", "go", (k,))):
+                with self.assertRaises(NoDeed):
+                    deed_text(deed)
+                with self.assertRaises(NoDeed):
+                    do(Stead(), deed)
 
     def test_several(self):
         self.assertEqual(read_deeds(""), ())
@@ -143,6 +179,26 @@ class DoTest(unittest.TestCase):
             do(stead, ("again", 7))
         with self.assertRaises(Busy):
             do(stead, ("begin", "X", "go", ()))
+
+    def test_frames_far_away(self):
+        for quick in (False, True):
+            stead = Stead(quick=quick)
+            stead.load("a", PAGE)
+            for k, _ in FAR:
+                for deed in (("again", k), ("name", k, "a", 1), ("name", k, "nope", 1)):
+                    with self.assertRaises(Idle):
+                        do(stead, deed)
+            stead.begin("A", "go", (1,))
+            ahead = everything(stead)
+            for k, figures in FAR:
+                for deed in (("again", k), ("name", k, "a", 1), ("name", k, "nope", 1)):
+                    with self.assertRaises(NoFrame):
+                        do(stead, deed)
+                desk = Desk(stead.twin())
+                with self.assertRaises(Undone) as caught:
+                    desk.do("run 1\nagain %s\n" % figures)
+                self.assertEqual((caught.exception.at, type(caught.exception.__cause__)), (1, NoFrame))
+            self.assertEqual(everything(stead), ahead)
 
     def test_no_deeds(self):
         stead = Stead()
