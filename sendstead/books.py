@@ -170,6 +170,12 @@ class Book:
         book._stamp = self._stamp
         return book
 
+    def is_told_as(self, other):
+        """Whether images tell the same of another book; its stamp isn't looked at."""
+        # A tree's words tell of each worth whether it's a number or a truth, so Python's == takes none for another.
+        alike = self._kinds.are_as(other._kinds) and self._heads == other._heads
+        return alike and self._versions == other._versions and self._page_names == other._page_names
+
     def is_within_bounds(self):
         """Whether its kinds are as they may be: without rings, no field twice in a line, not too many."""
         kinds = self._kinds

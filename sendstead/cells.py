@@ -2,12 +2,12 @@
 
 from sendstead.bounds import MOST_FIELDS, MOST_NAMES, MOST_WORTHS_OF_LIST
 from sendstead.signs import is_kind_name
-from sendstead.worths import is_plain, is_row, sort_of
+from sendstead.worths import is_plain, is_row, is_whole
 
 
 def is_number_from_0(thing):
     """Whether it is a number from 0 on."""
-    return sort_of(thing) == "number" and thing >= 0
+    return is_whole(thing) and thing >= 0
 
 
 def is_cell_word(thing):
@@ -22,7 +22,7 @@ def is_text_of(thing, text):
 
 def is_worth(thing):
     """Whether it is a worth, plain or a cell."""
-    return is_plain(thing) or is_cell_word(thing)
+    return is_cell_word(thing) if isinstance(thing, tuple) else is_plain(thing)
 
 
 def are_worths(thing, most):

@@ -4,10 +4,9 @@ from sendstead.books import THING, book_from
 from sendstead.bounds import MOST_KINDS, MOST_MESSAGES, MOST_PAGES, MOST_VERSIONS
 from sendstead.cells import is_kind_word
 from sendstead.errors import NoImage
-from sendstead.forms import are_places, are_words, is_method, is_part
+from sendstead.forms import Outline, are_places, are_words, is_free_word
 from sendstead.signs import is_page_name
 from sendstead.steads import MOST_DEEP, MOST_ROOM, Stead
-from sendstead.trees import nodes_of
 from sendstead.views import view_stands
 from sendstead.worths import is_number_within, is_row
 
@@ -19,12 +18,18 @@ def read_image(thing, *, quick=False):
     _, kinds, versions, pages, room, deep, view = thing
     if not (are_pages(pages) and are_kinds(kinds) and are_versions(versions)):
         raise NoImage("it has no kinds, versions and pages as told")
-    if not does_book_stand(kinds, versions, pages):
+    if not do_names_stand(kinds, versions, pages):
         raise NoImage("its kinds, versions and pages don't go together")
+    book = book_from(kinds, versions, pages)
+    if not book.is_within_bounds():
+        raise NoImage("no book has such kinds")
     if not is_number_within(room, 1, MOST_ROOM) or not is_number_within(deep, 1, MOST_DEEP):
         raise NoImage("no stead has such a room, or so many frames")
-    book = book_from(kinds, versions, pages)
-    if not view_stands(book, room, deep, view):
+    # Each tree is gone over only once, as that is most of the work.
+    outlines = [Outline(tree) for _, _, _, tree, _ in versions]
+    if not all([is_outline_of(outline, version) for outline, version in zip(outlines, versions)]):
+        raise NoImage("it has a version that is none")
+    if not view_stands(book, outlines, room, deep, view):
         raise NoImage("it has no view as told")
     stead = Stead(quick=quick, room=room, deep=deep)
     stead.stand_as(book, view)
@@ -67,17 +72,21 @@ def are_versions(thing):
 
 
 def is_version(thing):
-    """Whether it has the form of a version, with the tree of a method and a place for each of its nodes."""
+    """Whether it has the form of a version, whatever stands in the places of its tree and of that one's places."""
     if not is_row(thing, 5):
         return False
-    kind, message, page, tree, places = thing
-    if not is_kind_word(kind) or not is_part("word", message, 0) or not isinstance(page, str):
-        return False
-    return is_method(tree) and tree[1] == message and are_places(places, len(nodes_of(tree)))
+    kind, message, page, _, _ = thing
+    return is_kind_word(kind) and is_free_word(message) and isinstance(page, str)
 
 
-def does_book_stand(kinds, versions, pages):
-    """Whether kinds, versions and pages of these forms go together as those of a book."""
+def is_outline_of(outline, version):
+    """Whether a version, whose tree has this outline, has the tree of a method and a place for each of its nodes."""
+    _, message, _, tree, places = version
+    return outline.stands and tree[1] == message and are_places(places, len(outline.nodes))
+
+
+def do_names_stand(kinds, versions, pages):
+    """Whether kinds, pages and versions that are named in these are there, and no kind is there twice."""
     names = [kind for kind, _, _, _ in kinds]
     if THING in names or len(set(names)) != len(names):
         return False
@@ -86,6 +95,4 @@ def does_book_stand(kinds, versions, pages):
     if not all([kind in names and page in pages for kind, _, page, _, _ in versions]):
         return False
     heads = [(kind, message, version) for kind, _, _, all_heads in kinds for message, version in all_heads]
-    if not all([version < len(versions) and versions[version][:2] == (kind, word) for kind, word, version in heads]):
-        return False
-    return book_from(kinds, versions, pages).is_within_bounds()
+    return all([version < len(versions) and versions[version][:2] == (kind, word) for kind, word, version in heads])

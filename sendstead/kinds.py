@@ -21,6 +21,10 @@ class Kinds:
         """The names of all kinds, in their order."""
         return tuple(self._parents)
 
+    def are_as(self, other):
+        """Whether others are the same, in the same order."""
+        return list(self._parents.items()) == list(other._parents.items()) and self._own == other._own
+
     def has(self, kind):
         """Whether it is one of these kinds."""
         return kind in self._parents

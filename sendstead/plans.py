@@ -12,7 +12,6 @@ class Plan:
     es: of each node the es that are worked out for it, in order.
     owner: of each e the node for which it's worked out.
     next_e: of each e the one that is worked out behind it for the same node.
-    waits: of each e how many worths wait in the frame when it begins to be worked out.
     takers: of each node the innermost try around it that takes what is raised there.
     """
 
@@ -25,7 +24,6 @@ class Plan:
         self.es = {}
         self.owner = {}
         self.next_e = {}
-        self.waits = {}
         self.takers = {}
         self.starts[METHOD_CODE] = self.lay(statements, 0, None, None)
 
@@ -49,7 +47,7 @@ class Plan:
             self.entries[number] = (into, self.lay(second, number + 1 + many_of(first), behind, taker))
             return
         test = node[2] if node[0] in ("set", "setfield") else node[1]
-        self.lay_es(number, (test,), 0, taker)
+        self.lay_es(number, (test,), taker)
         inner = number + 1 + many_nodes(test)
         if node[0] == "if":
             _, _, first, second = node
@@ -58,17 +56,16 @@ class Plan:
         elif node[0] == "while":
             self.entries[number] = (self.lay(node[2], inner, number, taker), behind)
 
-    def lay_es(self, number, nodes, waiting, taker):
-        """Lay the es of a node, ahead of which so many worths wait."""
+    def lay_es(self, number, nodes, taker):
+        """Lay the es of a node."""
         numbers = numbers_from(number + 1, nodes)
         self.es[number] = numbers
         for at, node in enumerate(nodes):
             inner = numbers[at]
             self.owner[inner] = number
             self.next_e[inner] = [*numbers[1:], None][at]
-            self.waits[inner] = waiting + at
             self.takers[inner] = taker
-            self.lay_es(inner, es_within(node), waiting + at, taker)
+            self.lay_es(inner, es_within(node), taker)
             if node[0] == "block":
                 self.starts[inner] = self.lay(node[2], inner + 1, None, None)
 

@@ -1,6 +1,6 @@
 """Rooms: cells by their addresses, what can be reached of them, and what they weigh."""
 
-from sendstead.cells import addresses_among, moved_worths, with_worths, worths_in
+from sendstead.cells import moved_worths, with_worths, worths_in
 
 # Cells that can't be reached any more are let be up to so many.
 MOST_IDLE_CELLS = 1000
@@ -47,15 +47,18 @@ class Room:
         self.held[address] = cell
 
     def reached(self, roots):
-        """The addresses that can be reached from these worths, in the order in which one comes to them."""
-        order = []
-        seen = {}
-        note_new(roots, seen, order)
+        """The addresses that can be reached from these worths, numbered in the order in which one comes to them."""
+        numbers = {}
+        rows = [roots]
         at = 0
-        while at < len(order):
-            note_new(worths_in(self.held[order[at]]), seen, order)
+        while at < len(rows):
+            worths = rows[at]
+            for worth in worths:
+                if isinstance(worth, tuple) and worth[1] not in numbers:
+                    numbers[worth[1]] = len(numbers)
+                    rows.append(worths_in(self.held[worth[1]]))
             at += 1
-        return order
+        return numbers
 
     def weight_reached(self, roots):
         """What weighs all that can be reached from these worths."""
@@ -84,23 +87,9 @@ class Room:
         """All cells by their addresses, rising."""
         return tuple([(address, self.held[address]) for address in sorted(list(self.held))])
 
-    def moved(self, addresses):
-        """The cells at these addresses, with the cells in them numbered as they stand in the row of addresses."""
-        numbers = numbers_in(addresses)
-        return tuple([moved_cell(self.held[address], numbers) for address in addresses])
-
-
-def note_new(worths, seen, order):
-    """Put the addresses among worths that weren't seen yet behind the others."""
-    for address in addresses_among(worths):
-        if address not in seen:
-            seen[address] = True
-            order.append(address)
-
-
-def numbers_in(addresses):
-    """For each address its number in the row of addresses."""
-    return {address: number for number, address in enumerate(addresses)}
+    def moved(self, numbers):
+        """The cells at numbered addresses, in their order, with these numbers for the cells in them."""
+        return tuple([moved_cell(self.held[address], numbers) for address in numbers])
 
 
 def moved_cell(cell, places):

@@ -11,6 +11,8 @@ MOST_NAME_SIGNS = 12
 SMALL = "abcdefghijklmnopqrstuvwxyz"
 CAPITALS = "ABCDEFGHIJKLMNOPQRSTUVWXYZ"
 FIGURES = "0123456789"
+SMALL_SIGNS = "abcdefghijklmnopqrstuvwxyz0123456789"
+KIND_SIGNS = "abcdefghijklmnopqrstuvwxyzABCDEFGHIJKLMNOPQRSTUVWXYZ0123456789"
 TEXT_SIGNS = "abcdefghijklmnopqrstuvwxyzABCDEFGHIJKLMNOPQRSTUVWXYZ0123456789_"
 
 BRACKETS = ("(", ")", "{", "}", "[", "]", "|")
@@ -87,7 +89,7 @@ def is_word(word):
 
 def is_small(word):
     """Whether it is a small word, kept or free."""
-    return is_name(word, SMALL, SMALL + FIGURES)
+    return is_name(word, SMALL, SMALL_SIGNS)
 
 
 def is_free(word):
@@ -97,7 +99,7 @@ def is_free(word):
 
 def is_kind_name(word):
     """Whether it is the name of a kind by its signs."""
-    return is_name(word, CAPITALS, SMALL + CAPITALS + FIGURES)
+    return is_name(word, CAPITALS, KIND_SIGNS)
 
 
 def is_page_name(word):
@@ -107,9 +109,7 @@ def is_page_name(word):
 
 def is_name(word, first, others):
     """Whether it begins with one of the first signs, and goes on with others, not too long."""
-    if not 1 <= len(word) <= MOST_NAME_SIGNS:
-        return False
-    return word[0] in first and has_only(word, others)
+    return 1 <= len(word) <= MOST_NAME_SIGNS and word[0] in first and has_only(word, others)
 
 
 def is_text(signs):
@@ -129,4 +129,5 @@ def is_number(word):
 
 def has_only(word, signs):
     """Whether each sign of the word is one of these signs."""
-    return all([sign in signs for sign in word])
+    # Nothing is left of such a word when all of these signs are stripped off its ends, and this is quick.
+    return word.strip(signs) == ""

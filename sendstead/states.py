@@ -1,9 +1,9 @@
 """States: how a stead stands, whichever way it runs."""
 
-from sendstead.cells import addresses_among, moved_worths
+from sendstead.cells import addresses_among, moved_worths, worths_in
 from sendstead.errors import Full
 from sendstead.raising import Raised
-from sendstead.rooms import Room, numbers_in
+from sendstead.rooms import Room
 
 IDLE = "idle"
 PAUSED = "paused"
@@ -67,15 +67,22 @@ class State:
 
     def told(self):
         """How it stands, as a view tells it."""
-        addresses = self.room.reached(self.roots())
-        numbers = numbers_in(addresses)
+        numbers = self.room.reached(self.roots())
         (last,) = moved_worths((self.last,), numbers)
         fault = self.fault
         if fault is not None:
             worth, version, node = fault
             fault = (*moved_worths((worth,), numbers), version, node)
         frames = tuple([frame.told_with(numbers) for frame in self.frames])
-        return (self.status, self.beats, tuple(self.said), last, fault, frames, self.room.moved(addresses))
+        return (self.status, self.beats, tuple(self.said), last, fault, frames, self.room.moved(numbers))
+
+    def is_told_as(self, other):
+        """Whether views tell the same of another state, kind for kind."""
+        # Most states are told apart by this already, and views take longer.
+        if self.status != other.status or self.beats != other.beats or len(self.frames) != len(other.frames):
+            return False
+        one, another = self.told(), other.told()
+        return one == another and truths_in(one) == truths_in(another)
 
     def make_room(self, more, taken):
         """Raise 'full unless what weighs so much fits in; the taken worths can still be reached."""
@@ -94,7 +101,7 @@ class State:
         """Let all cells go that can't be reached, and move the others together; the sweep's paper."""
         before = self.room.told()
         roots = self.roots()
-        numbers = numbers_in(self.room.reached(roots))
+        numbers = self.room.reached(roots)
         self.take_view(self.told())
         moves = tuple([(address, numbers[address]) for address in sorted(list(numbers))])
         return before, tuple(sorted(set(addresses_among(roots)))), moves, self.room.told()
@@ -146,3 +153,22 @@ def led_over(cell, paper):
             held = dict(zip(ahead, worths))
             return ("thing", kind, tuple([held.get(word, worth) for word in behind]))
     return cell
+
+
+def worths_told(view):
+    """All worths in a view that may be plain ones, in order."""
+    _, _, _, last, fault, frames, cells = view
+    worths = [last]
+    if fault is not None:
+        worths.append(fault[0])
+    for _, _, _, _, _, given, waiting in frames:
+        worths.extend(given + waiting)
+    for cell in cells:
+        if cell[0] != "block":
+            worths.extend(cell[1] if cell[0] == "names" else worths_in(cell))
+    return worths
+
+
+def truths_in(view):
+    """Of all worths of a view whether they are truths, which are equal to numbers for Python."""
+    return [isinstance(worth, bool) for worth in worths_told(view)]

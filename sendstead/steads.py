@@ -6,7 +6,7 @@ from sendstead.plain import PlainWay
 from sendstead.quick import QuickWay
 from sendstead.states import FAILED, IDLE, PAUSED, State
 from sendstead.trees import METHOD_CODE, found_name
-from sendstead.worths import is_number_within, is_plain, is_row, same, sort_of
+from sendstead.worths import is_number_within, is_plain, is_row, is_whole
 
 ROOM = 120
 DEEP = 20
@@ -237,7 +237,15 @@ class Stead:
         return len(range(self._deeds_done))
 
     def __eq__(self, other):
-        return isinstance(other, Stead) and same(self.image(), other.image())
+        return isinstance(other, Stead) and self._is_told_as(other)
+
+    def _is_told_as(self, other):
+        """Whether another stead's image is the same, kind for kind."""
+        state, another = self._state, other._state
+        bounds = (state.room.most, state.deep)
+        if bounds != (another.room.most, another.deep) or not self.book.is_told_as(other.book):
+            return False
+        return state.is_told_as(another)
 
 
 def kinds_told(book):
@@ -252,7 +260,7 @@ def heads_told(book, kind):
 
 def is_text(thing):
     """Whether it is a text, of whatever signs."""
-    return sort_of(thing) == "text"
+    return isinstance(thing, str)
 
 
 def are_plain(thing):
@@ -264,4 +272,4 @@ def are_marks(thing):
     """Whether it is a tuple of pages' names with rows."""
     if not isinstance(thing, tuple) or not all([is_row(part, 2) for part in thing]):
         return False
-    return all([is_text(page) and sort_of(row) == "number" for page, row in thing])
+    return all([is_text(page) and is_whole(row) for page, row in thing])

@@ -17,8 +17,12 @@ def codes_of(method):
 
 def names_of(method):
     """The names of a method: its parameters, then what it sets or takes."""
-    nodes = nodes_with_codes(method)
     _, _, parameters, _ = method
+    return names_among(parameters, nodes_with_codes(method))
+
+
+def names_among(parameters, nodes):
+    """The names of a method that has these parameters and these nodes, told with their codes."""
     names = list(parameters)
     for node, code in nodes:
         word = set_word(node)

@@ -21,7 +21,12 @@ def sort_of(thing):
 
 def is_number_within(thing, least, most):
     """Whether it is a number within these bounds."""
-    return sort_of(thing) == "number" and least <= thing <= most
+    return is_whole(thing) and least <= thing <= most
+
+
+def is_whole(thing):
+    """Whether it is a number, which a truth isn't."""
+    return isinstance(thing, int) and not isinstance(thing, bool)
 
 
 def is_row(thing, length):
@@ -31,12 +36,11 @@ def is_row(thing, length):
 
 def is_plain(thing):
     """Whether it is a worth that is no cell."""
-    sort = sort_of(thing)
-    if sort == "number":
+    if thing is None or isinstance(thing, bool):
+        return True
+    if isinstance(thing, int):
         return -BIG < thing < BIG
-    if sort == "text":
-        return is_text(thing)
-    return sort in ("none", "truth")
+    return isinstance(thing, str) and is_text(thing)
 
 
 def same(one, other):

@@ -1,4 +1,4 @@
-"""What several tests of steads need: a plain and a quick stead side by side, with the same deeds."""
+"""What several tests of steads need: a plain and a quick stead side by side with the same deeds, and parts of images."""
 
 import unittest
 
@@ -57,6 +57,27 @@ def everything(stead):
     """All that a stead tells."""
     return (stead.view(), stead.image(), stead.places(), stead.looked(), stead.stops(), stead.book.stamp(), len(stead),
             stead.book.shown(), outcome(stead.fault_place)[0])
+
+
+def at_path(thing, path):
+    for at in path:
+        thing = thing[at]
+    return thing
+
+
+def bent(thing, path, part):
+    """The thing with another part at a path."""
+    if not path:
+        return part
+    return thing[:path[0]] + (bent(thing[path[0]], path[1:], part),) + thing[path[0] + 1:]
+
+
+def paths(thing, ahead=()):
+    """The paths of all parts of a thing."""
+    yield ahead
+    if isinstance(thing, tuple):
+        for at, part in enumerate(thing):
+            yield from paths(part, ahead + (at,))
 
 
 class SteadCase(unittest.TestCase):

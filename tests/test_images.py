@@ -6,7 +6,7 @@ import unittest
 from sendstead.errors import NoImage, SteadError
 from sendstead.images import read_image
 from sendstead.steads import Stead
-from tests.steads_help import Pair
+from tests.steads_help import Pair, at_path, bent, paths
 
 TEXT = """kind A under Thing field f
   method go a :
@@ -60,27 +60,6 @@ def images():
 
 
 IMAGES = images()
-
-
-def at_path(thing, path):
-    for at in path:
-        thing = thing[at]
-    return thing
-
-
-def bent(thing, path, part):
-    """The thing with another part at a path."""
-    if not path:
-        return part
-    return thing[:path[0]] + (bent(thing[path[0]], path[1:], part),) + thing[path[0] + 1:]
-
-
-def paths(thing, ahead=()):
-    """The paths of all parts of a thing."""
-    yield ahead
-    if isinstance(thing, tuple):
-        for at, part in enumerate(thing):
-            yield from paths(part, ahead + (at,))
 
 
 class ImageCase(unittest.TestCase):
@@ -408,6 +387,20 @@ class TreeClausesTest(ImageCase):
         self.wrong((("if", ("list", (self.E,)), (), ()),) + (deep_if(12, ("do", ("list", ()))),))
         self.right((("if", ("list", (self.E,)), (), ()),) + (deep_if(11, ("do", ("list", ()))),))
 
+    def test_ever_so_many_nodes(self):
+        """So many that they could never be gone over one by one."""
+        tree = self.E
+        for _ in range(12):
+            tree = ("list", (tree,) * 140)
+        node = ("do", self.E)
+        for _ in range(12):
+            node = ("if", self.E, (node,) * 140, (node,) * 140)
+        block = ("do", self.E)
+        for _ in range(12):
+            block = ("do", ("block", (), (block,) * 140))
+        for statement in (("do", tree), ("say", ("send", tree, "go", (tree,))), node, block):
+            self.wrong((statement,), many=150)
+
     def test_nodes(self):
         self.right((("do", self.E),) * 75)
         self.wrong((("do", self.E),) * 75 + (("try", (), "e", ()),))
@@ -602,6 +595,20 @@ class ViewClausesTest(ImageCase):
                 changed[one], changed[other] = changed[other], changed[one]
                 self.assert_no_image(bent(image, (6,), view[:6] + (tuple(changed),)))
 
+    def test_cells_that_lead_to_themselves_alone(self):
+        """Nobody comes to them from a root, though each of them is led to."""
+        for name, image in IMAGES.items():
+            cells = image[6][6]
+            at = len(cells)
+            for more in ((("list", (("cell", at),)),), (("list", (("cell", at + 1),)), ("list", (("cell", at),))),
+                         (("list", (("cell", at), ("cell", at + 1))), ("list", ())), (("thing", "Thing", ()),)):
+                self.assert_no_image(bent(image, (6, 6), cells + more))
+        ended = bent(IMAGES["ended"], (6, 3), ("cell", 0))
+        ring = (("list", (("cell", 1), ("cell", 0))), ("list", (("cell", 0), ("cell", 1), ("cell", 1))))
+        self.assert_read(bent(ended, (6, 6), ring))
+        self.assert_no_image(bent(bent(ended, (6, 6), ring), (6, 3), None))
+        self.assert_no_image(bent(bent(ended, (6, 6), ring), (6, 3), ("cell", 1)))
+
 
 class DrawnImagesTest(ImageCase):
     def test_bent_ones_are_refused_or_stand(self):
@@ -611,6 +618,7 @@ class DrawnImagesTest(ImageCase):
         read = 0
         for name, image in IMAGES.items():
             everywhere = list(paths(image))
+            written = read_image(image, quick=True)
             for _ in range(250):
                 other = bent(image, chance.choice(everywhere), chance.choice(parts))
                 try:
@@ -620,6 +628,9 @@ class DrawnImagesTest(ImageCase):
                 else:
                     read += 1
                     self.assertEqual(repr(stead.image()), repr(other))
+                    # Steads are equal where their images are the same, kind for kind.
+                    self.assertIs(stead == written, repr(other) == repr(image))
+                    self.assertIs(written == stead, repr(other) == repr(image))
         self.assertGreater(read, 5)
 
     def test_what_waits_in_es_within_es(self):

@@ -3,12 +3,13 @@
 import unittest
 
 from sendstead.errors import (
-    Busy, Clash, Count, Fault, Full, Idle, Many, NoDeed, NoField, NoFrame, NoKind, NoMethod, NoName, NoWord, Ring, Used,
-    Worn,
+    Busy, Clash, Count, Fault, Full, Idle, Many, NoDeed, NoField, NoFrame, NoImage, NoKind, NoMethod, NoName, NoWord, Ring,
+    Used, Worn,
 )
+from sendstead.images import read_image
 from sendstead.leadings import leads
 from sendstead.steads import DEEDS, DEEP, ROOM, Stead
-from tests.steads_help import Pair, SteadCase, begun, everything, pair_with
+from tests.steads_help import Pair, SteadCase, at_path, begun, bent, everything, pair_with, paths
 
 NO_TEXTS = (None, 0, True, (), [], b"a", 1.0, ("a",))
 NO_WORTHS = ((), [], {}, ("cell", 0), 1.0, 10 ** 12, -(10 ** 12), "x" * 41, "a b", "'a", b"a", object())
@@ -599,6 +600,93 @@ class TwinTest(SteadCase):
             steads.append(stead)
         for one, stead in enumerate(steads):
             self.assertEqual([stead == other for other in steads], [at == one for at in range(len(steads))])
+
+    def test_kind_for_kind_at_each_place(self):
+        """Wherever a worth can stand: true is not 1 and false not 0."""
+        text = """kind A under Thing field f
+          method go a : @f := a x := [ a ] y := [ a ( { b | say 1 say 2 } call a ) ] end
+          method give a : return a end
+          method fail a : raise a end
+        end"""
+        seen = {}
+        for worth, other in ((0, False), (1, True), (False, 0), (True, 1)):
+            stead = Stead()
+            stead.load("a", text)
+            for message, beats in (("give", 5), ("fail", 5), ("go", 4)):
+                stead.begin("A", message, (worth,))
+                stead.run(beats)
+                image = stead.image()
+                for path in paths(image[6]):
+                    part = at_path(image[6], path)
+                    if type(part) is type(worth) and part == worth:
+                        self.check_another_worth(stead, bent(image, (6, *path), other), place_in_view(image[6], path), seen)
+        # The last answer, the fault's worth, what frames were given and what waits in them, and worths in cells.
+        self.assertEqual({place for place, many in seen.items() if many >= 4}, {3, 4, (5, 5), (5, 6), "thing", "list", "names"})
+
+    def check_another_worth(self, stead, image, place, seen):
+        try:
+            other = read_image(image)
+        except NoImage:
+            return
+        seen[place] = seen.get(place, 0) + 1
+        self.assertEqual(stead.image(), image)
+        self.assertFalse(other == stead or stead == other, image)
+        self.assertTrue(other == other.twin())
+
+    def test_books_with_numbers_and_truths(self):
+        steads = []
+        for word in ("1", "true", "0", "false", "none", "'1", "'true", "'none"):
+            stead = Stead()
+            stead.load("a", "kind A under Thing method go : return %s end end" % word)
+            steads.append(stead)
+        for one, stead in enumerate(steads):
+            self.assertEqual([stead == other for other in steads], [at == one for at in range(len(steads))])
+
+    def test_all_of_the_image_is_looked_at(self):
+        page = "kind A under Thing field f method go : return self end end kind B under A end"
+        book = stead_with(page)
+        steads = [Stead(), book, stead_with(page, room=119), stead_with(page, deep=19), stead_with("", page)]
+        for more in ("kind C under Thing end", "more A method go : return self end end", "more A method to : return self end end",
+                     "more B method go : return self end end"):
+            steads.append(stead_with(page, more))
+        for text in (page.replace("self", " self"), page.replace("field f", "field g"), page.replace("field f", ""), page.replace("A", "Aa"),
+                     "kind B under A end " + page.replace(" kind B under A end", ""),
+                     page.replace("return self", "return none"), page.replace("return", "say"), page.replace("go", "to")):
+            steads.append(stead_with(text))
+        # Kinds in another order, all else alike.
+        rows = "kind A under Thing method go : return self end end"
+        steads += [stead_with("kind B under Thing end\n%s" % rows), stead_with("\n%s kind B under Thing end" % rows)]
+        for deed in (("gone", "A", "go"), ("field", "B", "g", 1), ("lost", "A", "f"), ("under", "B", "Thing"), ("begin", "A", "go"),
+                     ("begin", "B", "go")):
+            stead = book.twin()
+            getattr(stead, deed[0])(*deed[1:])
+            steads.append(stead)
+            if deed[0] == "begin":
+                for _ in range(2):
+                    stead = stead.twin()
+                    stead.run(1) if stead.view()[0] == "paused" else stead.forget()
+                    steads.append(stead)
+        images = [repr(stead.image()) for stead in steads]
+        self.assertEqual(len(set(images)), len(steads))
+        for at, stead in enumerate(steads):
+            self.assertEqual([stead == other for other in steads], [at == one for one in range(len(steads))])
+            self.assertTrue(stead == stead.twin() == read_image(stead.image(), quick=True))
+
+
+def stead_with(*texts, room=120, deep=20):
+    """A stead with these pages, of which those without a text aren't loaded."""
+    stead = Stead(room=room, deep=deep)
+    for at, text in enumerate(texts):
+        if text:
+            stead.load("abcdefgh"[at], text)
+    return stead
+
+
+def place_in_view(view, path):
+    """At what place of a view a path leads to a worth: of cells by their sort, of frames by the part."""
+    if path[0] == 6:
+        return view[6][path[1]][0]
+    return (5, path[2]) if path[0] == 5 else path[0]
 
 
 if __name__ == "__main__":
